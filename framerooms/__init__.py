@@ -1,0 +1,1 @@
+"""Framerooms: rooms that are given in frames and go all at once."""
