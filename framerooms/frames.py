@@ -16,23 +16,22 @@ class Frames:
         self.takers = [None]
 
     def begin(self, frame):
-        self.want_standing(frame)
-        number = len(self.parents)
-        if number > MOST_FRAMES:
-            raise TooMany(number)
+        self.want_beginning(frame)
         self.parents.append(frame)
         self.takers.append(None)
-        return number
+        return self.begun()
 
     def finish(self, frame):
-        self.want_standing(frame)
-        if frame == GROUND:
-            raise Ground()
-        # A frame is begun behind the one around it, so falling numbers end the inner ones first.
-        ending = [number for number in reversed(self.standing()) if frame in self.row(number)]
-        for number in ending:
+        self.want_finishing(frame)
+        ended = self.part(frame)
+        for number in ended:
             self.takers[number] = frame
-        return ending
+        return ended
+
+    def part(self, frame):
+        """The frame and all that stand within it, in the order in which they would end."""
+        # A frame is begun behind the one around it, so in falling numbers the inner ones go first.
+        return [number for number in reversed(self.standing()) if frame in self.row(number)]
 
     def inside(self, frame):
         self.want_begun(frame)
@@ -76,3 +75,13 @@ class Frames:
         self.want_begun(thing)
         if not self.stands(thing):
             raise Gone(thing, self.takers[thing])
+
+    def want_beginning(self, thing):
+        self.want_standing(thing)
+        if self.begun() == MOST_FRAMES:
+            raise TooMany(MOST_FRAMES + 1)
+
+    def want_finishing(self, thing):
+        self.want_standing(thing)
+        if thing == GROUND:
+            raise Ground()

@@ -1,9 +1,10 @@
-"""Things to hand in, and a look at what a refusal holds."""
+"""Things to hand in, houses to try things with, and a look at all that is told or refused."""
 
-import copy
+import unittest
 
-from framerooms.errors import NoFrame, RoomError
+from framerooms.errors import Gone, NoFrame, RoomError
 from framerooms.frames import Frames
+from framerooms.house import House
 
 LONG = 10 ** 29 + 12345678901234567890  # thirty figures
 
@@ -23,7 +24,7 @@ def any_things():
         [], [0], [1], [0, 1], [None], ["a"], [True],
         (), (0,), (1,), (0, 1), (0, 1, 2), (None,), ("a", "b"), (True, False), (-1, 0),
         {}, {0: 1}, {"a": 1}, {"a": [1, {"b": (0, 1)}]}, {0: 0, 1: 1},
-        nest(8), Frames(), RoomError("a"), NoFrame([1]),
+        nest(8), Frames(), House(1), RoomError("a"), NoFrame([1]),
     ]
 
 
@@ -33,7 +34,11 @@ def is_int(thing):
 
 def copied(thing):
     """A copy to compare with; objects are left, which have no equals."""
-    return copy.deepcopy(thing) if isinstance(thing, (list, tuple, dict)) else thing
+    if isinstance(thing, (list, tuple)):
+        return type(thing)([copied(each) for each in thing])
+    if isinstance(thing, dict):
+        return {copied(key): copied(value) for key, value in thing.items()}
+    return thing
 
 
 def refusal(test, kind, deed, *things):
@@ -44,3 +49,92 @@ def refusal(test, kind, deed, *things):
     test.assertIs(type(caught.exception), kind)
     test.assertEqual(list(things), before)
     return caught.exception
+
+
+def outcome(deed, *things):
+    """What is told, or the name of the refusal and its fields."""
+    try:
+        return ("told", deed(*things))
+    except RoomError as e:
+        return (type(e).__name__, vars(e))
+
+
+def seen(frames):
+    """All that is told of frames, or of a house, with nothing done."""
+    numbers = range(frames.begun() + 1)
+    told = [frames.begun(), frames.standing()] + [
+        (
+            frames.inside(number), frames.row(number), frames.within(number), frames.ended_by(number),
+            frames.stands(number),
+        )
+        for number in numbers
+    ]
+    if isinstance(frames, House):
+        told.append((frames.limit(), frames.used(), frames.left(), frames.greatest(), frames.picture()))
+        told.extend([outcome(frames.rooms, number) for number in numbers])
+        # No frame of a test that looks so has more places with ways that count.
+        places = range(min(frames.limit(), 20) + 1)
+        told.extend([outcome(frames.cells, (number, place)) for number in numbers for place in places])
+    return told
+
+
+class Case(unittest.TestCase):
+    def refused(self, frames, kind, deed, *things):
+        """The refusal; all is as it was behind it."""
+        before = seen(frames)
+        answer = refusal(self, kind, deed, *things)
+        self.assertEqual(seen(frames), before)
+        return answer
+
+    def gone(self, frames, deed, frame, by, *more):
+        answer = self.refused(frames, Gone, deed, frame, *more)
+        self.assertIs(answer.found, frame)
+        self.assertEqual(answer.by, by)
+        self.assertIs(type(answer.by), int)
+
+    def alike(self, first, second, why=None):
+        """Equal, with the same kinds and in the same order, also within."""
+        self.assertEqual(repr(first), repr(second), why)
+
+
+class Dice:
+    """Numbers in a row that looks thrown, but is the same each time."""
+
+    def __init__(self, seed):
+        self.state = seed
+
+    def below(self, bound):
+        self.state = (self.state * 6364136223846793005 + 1442695040888963407) % 2 ** 64
+        return (self.state >> 33) % bound
+
+    def pick(self, things):
+        return things[self.below(len(things))]
+
+
+def thrown_house(dice, rooms=6, frames=4, size=3):
+    """A house of which some frames have ended, its cells with numbers and ways, and all its ways."""
+    house = House(40)
+    for turn in range(1 + dice.below(frames)):
+        house.begin(dice.pick(house.standing()))
+    ways = []
+    for turn in range(1 + dice.below(rooms)):
+        ways.append(house.make(dice.pick(house.standing()), 1 + dice.below(size)))
+    for way in ways:
+        for k in range(house.size(way)):
+            house.put(way, k, dice.pick([None, 7, -1] + ways + ways))
+    if house.begun() > 2 and dice.below(3) == 0:
+        house.finish(1 + dice.below(house.begun()))
+    return house, ways
+
+
+def thrown_hands(dice, ways):
+    names = ["b", "a", "zz", "abcdef"][dice.below(4):]
+    return {name: dice.pick([None, 3, 0] + ways + ways) for name in names}
+
+
+def thrown(many, **bounds):
+    """So many houses, each with its dice, its ways and hands for it."""
+    for seed in range(many):
+        dice = Dice(seed)
+        house, ways = thrown_house(dice, **bounds)
+        yield dice, house, ways, thrown_hands(dice, ways)

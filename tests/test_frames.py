@@ -5,7 +5,7 @@ import unittest
 
 from framerooms.errors import Gone, Ground, NoFrame, RoomError, TooMany
 from framerooms.frames import Frames
-from tests.helper import LONG, any_things, is_int, refusal
+from tests.helper import LONG, Case, any_things, is_int, seen
 
 
 def no_numbers(frames):
@@ -14,18 +14,6 @@ def no_numbers(frames):
     beside = [-1, -2, begun + 1, begun + 2, 101, 102, -begun - 1, LONG, -LONG, True, False]
     things = beside + any_things() + [frames]
     return [thing for thing in things if not (is_int(thing) and 0 <= thing <= begun)]
-
-
-def seen(frames):
-    """All that is told of frames, with nothing done."""
-    numbers = range(frames.begun() + 1)
-    return [frames.begun(), frames.standing()] + [
-        (
-            frames.inside(number), frames.row(number), frames.within(number), frames.ended_by(number),
-            frames.stands(number),
-        )
-        for number in numbers
-    ]
 
 
 def tree():
@@ -42,21 +30,6 @@ def full():
     for frame in list(range(50)) + [0] * 50:
         frames.begin(frame)
     return frames
-
-
-class Case(unittest.TestCase):
-    def refused(self, frames, kind, deed, *things):
-        """The refusal; all is as it was behind it."""
-        before = seen(frames)
-        answer = refusal(self, kind, deed, *things)
-        self.assertEqual(seen(frames), before)
-        return answer
-
-    def gone(self, frames, deed, frame, by):
-        answer = self.refused(frames, Gone, deed, frame)
-        self.assertIs(answer.found, frame)
-        self.assertEqual(answer.by, by)
-        self.assertIs(type(answer.by), int)
 
 
 class AtFirst(Case):
