@@ -5,6 +5,7 @@ import unittest
 from framerooms.errors import Gone, NoFrame, RoomError
 from framerooms.frames import Frames
 from framerooms.house import House
+from framerooms.programs import Program
 
 LONG = 10 ** 29 + 12345678901234567890  # thirty figures
 
@@ -24,7 +25,7 @@ def any_things():
         [], [0], [1], [0, 1], [None], ["a"], [True],
         (), (0,), (1,), (0, 1), (0, 1, 2), (None,), ("a", "b"), (True, False), (-1, 0),
         {}, {0: 1}, {"a": 1}, {"a": [1, {"b": (0, 1)}]}, {0: 0, 1: 1},
-        nest(8), Frames(), House(1), RoomError("a"), NoFrame([1]),
+        nest(8), Frames(), House(1), Program([]), RoomError("a"), NoFrame([1]),
     ]
 
 
@@ -138,3 +139,78 @@ def thrown(many, **bounds):
         dice = Dice(seed)
         house, ways = thrown_house(dice, **bounds)
         yield dice, house, ways, thrown_hands(dice, ways)
+
+
+def seen_program(program):
+    """All that is told of a program, but what has no number of a making."""
+    return (
+        program.told(), program.deeds(), program.names(), program.makings(),
+        [program.around(number) for number in program.makings()], program.widest(), program.longest(),
+    )
+
+
+def seen_run(run):
+    """All that is told of a run with room without end."""
+    return (
+        run.told(), run.ending(), run.long(), run.deeds(), run.taken(), run.things(), run.touches(),
+    )
+
+
+def seen_framed(run):
+    """All that is told of a run in frames."""
+    return (run.told(), run.ending(), run.long(), run.used(), run.greatest(), run.stays())
+
+
+def thrown_deed(dice, labels, names):
+    """A deed without bodies, most often one that can be done: what may hold no thing is held by w."""
+    word = dice.pick(["make"] * 4 + ["put"] * 5 + ["get"] * 4 + ["tell", "same", "set", "copy", "more"])
+    x, y = dice.pick(names), dice.pick(names)
+    z = "w" if dice.below(8) else x
+    if word == "make":
+        return (word, x, 2 - dice.below(8) // 7 + dice.below(2), dice.pick([None] + labels))
+    if word == "put":
+        return (word, x, dice.below(2), dice.pick([y, y, "w"]))
+    if word == "get":
+        return (word, z, y, dice.below(2))
+    if word == "set":
+        return (word, z, dice.pick([None, 0, -7, 30]))
+    if word == "more":
+        return (word, z, dice.pick(["w", "w", y]), dice.pick([1, -1, 0, 12]))
+    if word == "tell":
+        return (word, dice.pick(["w", x]))
+    return (word, dice.pick([x, z]), dice.pick([y, y, "w"]))
+
+
+def thrown_body(dice, labels, names, depth):
+    """Deeds with bodies within one another, at most so many."""
+    body = [("make", name, 2, dice.pick([None] + labels)) for name in names if dice.below(3) == 0]
+    for turn in range(1 + dice.below(4)):
+        word = dice.pick(["frame", "frame", "turns", "turns", "either"] + [""] * 6) if depth else ""
+        free = [label for label in ("f", "g", "h", "abcdef") if label not in labels]
+        if word == "either":
+            bodies = [thrown_body(dice, labels, names, depth - 1) for side in range(2)]
+            body.append((word, bodies[0], bodies[1]))
+        elif word:
+            label = dice.pick(free)
+            inner = thrown_body(dice, labels + [label], names, depth - 1)
+            turns = (1 + dice.below(3), dice.below(5)) if word == "turns" else ()
+            body.append((word, label) + turns + (inner,))
+        else:
+            body.append(thrown_deed(dice, labels, names))
+    return body
+
+
+def thrown_programs(many, depth=3, names=("x", "y", "z")):
+    """So many programs, each with its dice."""
+    found = 0
+    seed = 0
+    while found < many:
+        seed += 1
+        dice = Dice(seed)
+        try:
+            first = [("make", name, 2, None) for name in names if dice.below(8)] + [("set", "w", 5)]
+            program = Program(first + thrown_body(dice, ["ground"], names, depth))
+        except RoomError:
+            continue
+        found += 1
+        yield dice, program
