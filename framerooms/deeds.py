@@ -95,14 +95,34 @@ def depth_of(body):
     return depth
 
 
-def rebuilt(body, change):
-    """The same deeds, all bodies tuples, each other part put as change tells of its kind and of it."""
-    return tuple([rebuilt_deed(deed, change) for deed in body])
+def rewritten(body, change, first=0):
+    """The deeds that change tells, in the place of each one: of its number, and of it with its bodies rewritten.
+
+    The deeds are numbered from first on, and all bodies are tuples.
+    """
+    told = []
+    number = first
+    for deed in body:
+        told.extend(change(number, with_bodies(deed, change, number + 1)))
+        number += many_in((deed,))
+    return tuple(told)
 
 
-def rebuilt_deed(deed, change):
-    parts = [rebuilt(part, change) if kind == "body" else change(kind, part) for kind, part in parts_of(deed)]
-    return (deed[0],) + tuple(parts)
+def with_bodies(deed, change, first):
+    parts = [deed[0]]
+    number = first
+    for kind, part in parts_of(deed):
+        if kind == "body":
+            parts.append(rewritten(part, change, number))
+            number += many_in(part)
+        else:
+            parts.append(part)
+    return tuple(parts)
+
+
+def with_parts(deed, change):
+    """The deed with each of its parts put as change tells of its kind and of it."""
+    return (deed[0],) + tuple([change(kind, part) for kind, part in parts_of(deed)])
 
 
 def listing(body, around):

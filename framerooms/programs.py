@@ -1,7 +1,7 @@
 """Programs of deeds, and what is told of them ahead of all runs."""
 
 from framerooms.deeds import (
-    OUTERMOST, depth_of, is_block, listing, longest_of, many_in, names_of, rebuilt, want_body, widest_of,
+    OUTERMOST, depth_of, is_block, listing, longest_of, many_in, names_of, rewritten, want_body, widest_of,
 )
 from framerooms.errors import NoLabel, NoMaking, TooDeep, TooLong, TooMany, TooWide, Twice
 from framerooms.words import is_whole
@@ -18,7 +18,7 @@ class Program:
     def __init__(self, deeds):
         want_body(deeds)
         want_size(deeds)
-        self.body = rebuilt(deeds, lambda kind, part: part)
+        self.body = rewritten(deeds, lambda number, deed: [deed])
         # By the number of each deed, it and the labels around it.
         self.listed = listing(self.body, (OUTERMOST,))
         want_labels(self.listed)

@@ -6,7 +6,7 @@ import itertools
 class Frame:
     def __init__(self, parent):
         self.parent = parent
-        self.stands = True
+        self.ended = None
         self.things = []
 
 
@@ -19,6 +19,8 @@ class Thing:
         self.last = None
         self.gone = None
         self.frame = None
+        # By each label around its making, the frame in which it would lie.
+        self.places = None
 
 
 class Stop(Exception):
@@ -134,6 +136,7 @@ class Model:
         thing = Thing(len(self.things), size, self.deeds[-1], self.at)
         thing.frame = self.blocks[-1][1] if label is None else dict(self.blocks)[label]
         thing.frame.things.append(thing)
+        thing.places = dict(self.blocks)
         self.things.append(thing)
         self.names[name] = thing
         self.close()
@@ -205,6 +208,7 @@ class Model:
 
     def finish(self, frame):
         if self.manner is None:
+            frame.ended = self.at
             return
         kept = self.kept(frame)
         if self.manner == "caught" and kept:
@@ -215,6 +219,16 @@ class Model:
                 frame.parent.things.append(thing)
             else:
                 thing.gone = self.at
+
+    def late(self, making, label):
+        """Of a run with room without end the steps at which a thing of the making is touched behind the end of the
+        frame of this label."""
+        found = []
+        for at, number in self.touches:
+            thing = self.things[number]
+            if thing.making == making and thing.places[label].ended is not None and thing.places[label].ended < at:
+                found.append(at)
+        return found
 
     # What runs tell.
 
