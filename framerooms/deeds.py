@@ -125,6 +125,11 @@ def with_parts(deed, change):
     return (deed[0],) + tuple([change(kind, part) for kind, part in parts_of(deed)])
 
 
+def with_label(deed, label):
+    """The deed, with this label where it is a making."""
+    return deed[:3] + (label,) if deed[0] == "make" else deed
+
+
 def listing(body, around):
     """Each deed with the labels around it, the innermost first, in the order of reading."""
     listed = []

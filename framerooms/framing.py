@@ -1,6 +1,7 @@
 """Programs without frames that are put into frames, with the least room."""
 
-from framerooms.deeds import OUTERMOST, bodies_of
+from framerooms.deeds import OUTERMOST, bodies_of, with_label
+from framerooms.doing import DONE
 from framerooms.errors import NotStraight
 from framerooms.programs import Program
 from framerooms.running import free_run
@@ -17,7 +18,7 @@ def framed(program):
     levels = [[]]
     for number, deed in enumerate(program.told()):
         levels.extend([[] for end in begins if begins[end] == number])
-        levels[-1].append(deed[:3] + (labels.get(number, OUTERMOST),) if deed[0] == "make" else deed)
+        levels[-1].append(with_label(deed, labels.get(number, OUTERMOST)))
         if number in begins:
             body = levels.pop()
             levels[-1].append(("frame", label_for(number), body))
@@ -59,7 +60,7 @@ def live(program):
     want_straight(program)
     run = free_run(program, ())
     spans = list(zip(run.things(), last_steps(run)))
-    done = run.long() if run.ending() == ("done",) else run.long() - 1
+    done = run.long() if run.ending() == DONE else run.long() - 1
     return [live_at(spans, at) for at in range(done)]
 
 

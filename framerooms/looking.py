@@ -1,6 +1,6 @@
 """The look ahead: in which frame each making may lie, whatever the choices, and how much room is used."""
 
-from framerooms.deeds import rewritten
+from framerooms.deeds import rewritten, with_label
 from framerooms.house import MOST_CELLS
 from framerooms.inframes import run_in
 from framerooms.programs import Program
@@ -75,12 +75,7 @@ def placed(program):
     labels = {}
     for number, told in look(program).items():
         labels[number] = told[0] if told[1] is not None else None
-    return Program(rewritten(program.told(), lambda number, deed: [labelled(deed, number, labels)]))
-
-
-def labelled(deed, number, labels):
-    """The deed, and where it is a making, with the label of its number."""
-    return deed[:3] + (labels[number],) if deed[0] == "make" else deed
+    return Program(rewritten(program.told(), lambda number, deed: [with_label(deed, labels.get(number))]))
 
 
 def plain_run(program, choices):
