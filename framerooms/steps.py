@@ -8,12 +8,12 @@ from framerooms.frames import GROUND
 class Step:
     """The number of the deed that it is a step of, and what is done in it, in the order of its values."""
 
-    def __init__(self, number, choice=None, ended=(), parent=None, deed=None, places=None):
+    def __init__(self, number, choice=None, ended=None, parent=None, deed=None, places=None):
         self.number = number
         # The truth that an either takes.
         self.choice = choice
         # The frames that are ended, in their order.
-        self.ended = ended
+        self.ended = () if ended is None else ended
         # The frame within which another one is begun.
         self.parent = parent
         # The deed that is done, and in which frame it would make a thing, by each label around it, and by None.
